@@ -1,0 +1,1 @@
+"""Refusedahead: conditions that may err, asked in any order."""
