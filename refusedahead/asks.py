@@ -6,6 +6,7 @@ from refusedahead.steps import are_steps, before, erring, steps_on
 from refusedahead.values import is_integer, is_name, is_number
 
 ANSWERS = ("error", "no", "unknown", "yes")
+OPPOSITES = {"error": "error", "no": "yes", "unknown": "unknown", "yes": "no"}
 
 # The signs that hold for a number below, at and above the one asked for.
 BELOW = ("<", "<=", "<>")

@@ -19,10 +19,36 @@ STAGE_1 = """
 """
 
 STAGE_2 = """
+>>> from refusedahead.asking import answer, asked, kept
 >>> from refusedahead.asks import test_answer, told
->>> tens = ("asks", "n", (("over", 10),), ">", 3)
+>>> from refusedahead.texts import addresses, is_plain_at, parts, tests_in, turned
+>>> some, tens = ("asks", "n", (), "<>", 0), ("asks", "n", (("over", 10),), ">", 3)
+>>> guarded = ("all", (some, tens))
 >>> [test_answer(tens, 2), test_answer(tens, 0), test_answer(tens, None), test_answer(tens, "ten"), told(tens)["yes"].pairs()]
 ['yes', 'error', 'unknown', 'error', [(1, 2)]]
+>>> [answer(guarded, {"n": 0}), answer(("all", (tens, some)), {"n": 0}), asked(guarded, {"n": 0}), asked(guarded, {"n": 2})]
+['no', 'error', [((0,), 'no')], [((0,), 'yes'), ((1,), 'yes')]]
+>>> case = ("case", ((some, tens),), ("always", "no"))
+>>> [addresses(case), is_plain_at(("not", case), (0, 0)), is_plain_at(("not", case), (0, 1)), kept(case, [{"n": 0}, {"n": 1}, {"n": None}])]
+[[(), (0,), (1,), (2,)], True, False, [1]]
+>>> turned(("all", (some, ("not", tens)))) == ("any", (("not", some), tens))
+True
+"""
+
+STAGE_3 = """
+>>> from refusedahead.cells import cell_of, cells_of, value_for
+>>> from refusedahead.classes import answers_in, class_row, class_rows, row_apart
+>>> from refusedahead.tables import Table
+>>> share, column = ("asks", "n", (("over", 12),), ">", 3), ("n", -5, 20, True, False)
+>>> cells_of(column, [share])
+[(True, False, ()), (False, False, ((-5, -1), (4, 20))), (False, False, ((0, 0),)), (False, False, ((1, 3),))]
+>>> [cell_of(column, [share], 7) == cell_of(column, [share], -2), value_for((False, False, ((1, 3),)))]
+[True, 1]
+>>> table = Table([column, ("m", 1, 2, False, False)])
+>>> [class_row(table, [share], {"m": 2, "n": 9}), len(class_rows(table, [share])), len(class_rows(table.with_index(share), [share]))]
+[{'m': 1, 'n': -5}, 4, 3]
+>>> [answers_in(table, share), answers_in(table.with_index(share), share), row_apart(table, ("not", ("not", share)), share)]
+[['error', 'no', 'unknown', 'yes'], ['no', 'unknown', 'yes'], None]
 """
 
 
@@ -38,6 +64,9 @@ class ExamplesTest(unittest.TestCase):
 
     def test_stage_2(self):
         self.check(STAGE_2, "stage 2")
+
+    def test_stage_3(self):
+        self.check(STAGE_3, "stage 3")
 
     def test_readme(self):
         with open(README, encoding="utf-8") as file:
