@@ -7,6 +7,7 @@ from refusedahead.values import is_integer
 TESTS = ("asks", "empty", "number")
 LEAVES = ("always", "asks", "empty", "number")
 NODES = ("all", "any")
+DECIDES = {"all": "no", "any": "yes"}
 LISTS = ("all", "any", "first")
 LISTS_TURNED = {"all": "any", "any": "all", "first": "first"}
 
@@ -63,32 +64,45 @@ def _with_parts(condition, others):
     return (kind, tuple(others))
 
 
-def _places(condition):
-    """The list of the tuples (address, part) of a condition, ascending."""
-    found = [((), condition)]
-    for index, part in enumerate(parts(condition)):
-        found.extend([((index,) + address, below) for address, below in _places(part)])
+def _is_when(condition, index):
+    """Whether the part of a case with this index is a when."""
+    return index % 2 == 0 and index < 2 * len(condition[1])
+
+
+def plain_parts(condition, plain):
+    """For each part whether its place is plain, plain telling it of the condition."""
+    below = parts(condition)
+    if condition[0] == "case":
+        return [plain or _is_when(condition, index) for index in range(len(below))]
+    return [plain and condition[0] in NODES] * len(below)
+
+
+def places(condition, plain=True):
+    """The list of the tuples (address, part, whether the place is plain), ascending."""
+    found = [((), condition, plain)]
+    for index, (part, truth) in enumerate(zip(parts(condition), plain_parts(condition, plain))):
+        found.extend([((index,) + address, other, here) for address, other, here in places(part, truth)])
     return found
 
 
 def addresses(condition):
     """The ascending list of all addresses in a condition."""
-    return [address for address, _ in _places(condition)]
+    return [address for address, _, _ in places(condition)]
 
 
 def nodes(condition):
     """The ascending list of the addresses of the alls and anys."""
-    return [address for address, part in _places(condition) if part[0] in NODES]
+    return [address for address, part, _ in places(condition) if part[0] in NODES]
 
 
 def leaves(condition):
     """The ascending list of the addresses of the tests and alwayses."""
-    return [address for address, part in _places(condition) if part[0] in LEAVES]
+    return [address for address, part, _ in places(condition) if part[0] in LEAVES]
 
 
 def tests_in(condition):
     """The ascending list of the different tests in a condition."""
-    return sorted({part for _, part in _places(condition) if part[0] in TESTS})
+    return sorted({part for _, part, _ in places(condition) if part[0] in TESTS})
 
 
 def columns_in(condition):
@@ -129,21 +143,12 @@ def put_at(condition, address, other):
     return _put(condition, address, other)
 
 
-def _is_when(condition, index):
-    """Whether the part of a case with this index is a when."""
-    return index % 2 == 0 and index < 2 * len(condition[1])
-
-
 def is_plain_at(condition, address):
     """Whether the place at an address is plain; raises NoPart for what is none."""
     part_at(condition, address)
     plain, part = True, condition
     for index in address:
-        if part[0] == "case":
-            plain = plain or _is_when(part, index)
-        else:
-            plain = plain and part[0] in NODES
-        part = parts(part)[index]
+        plain, part = plain_parts(part, plain)[index], parts(part)[index]
     return plain
 
 

@@ -51,6 +51,37 @@ STAGE_3 = """
 [['error', 'no', 'unknown', 'yes'], ['no', 'unknown', 'yes'], None]
 """
 
+STAGE_4 = """
+>>> from refusedahead.errs import can_err, is_error_paper, word_at, words_at
+>>> from refusedahead.planners import Planner
+>>> from refusedahead.plans import all_plans, asked_by, kept_by, run
+>>> from refusedahead.sevens import answers_of, of_all, of_any, of_case
+>>> from refusedahead.tables import Table
+>>> [of_all([("yes", False), ("no", True)]), of_all([(None, True), ("yes", False)]), of_any([(None, True), ("yes", False)])]
+[('no', True), (None, True), ('yes', True)]
+>>> [of_case([(("no", True), ("yes", False))], ("unknown", False)), answers_of(("no", True))]
+[('unknown', True), ['error', 'no']]
+>>> free, text, row, table = Planner("free"), Planner("text"), {"n": 0}, Table([("n", -5, 20, True, False)])
+>>> share, guard = ("asks", "n", (("over", 12),), ">", 3), ("asks", "n", (), "<>", 0)
+>>> both, other = ("all", (share, guard)), ("all", (guard, share))
+>>> [all_plans(both), run(free, both, {(): [1, 0]}, row), asked_by(free, both, {(): [1, 0]}, row), kept_by(text, both, {(): [0, 1]}, [{"n": 2}, {"n": 5}])]
+[[{(): [0, 1]}, {(): [1, 0]}], 'no', [((1,), 'no')], [0]]
+>>> [word_at(free, both, row), word_at(text, both, row), word_at(text, other, row), words_at(free, both, row)]
+[('no', True), (None, True), ('no', False), {(): ('no', True), (0,): (None, True), (1,): ('no', False)}]
+>>> [can_err(text, table, other), is_error_paper(free, table, both, ([row], {(): [0, 1]}))]
+[False, True]
+"""
+
+STAGE_5 = """
+>>> from refusedahead.planners import Planner
+>>> from refusedahead.safe import greatest_lot, may_follow, safe_plan
+>>> free, text = Planner("free"), Planner("text")
+>>> some, tens = ("asks", "n", (), "<>", 0), ("asks", "n", (("over", 10),), ">", 3)
+>>> both, rows = ("all", (tens, some)), [{"n": 0}, {"n": 2}]
+>>> [safe_plan(free, both, rows), safe_plan(text, both, rows), may_follow(free, both, rows, []), greatest_lot(free, both, rows)]
+[{(): [1, 0]}, None, [1], [0, 1]]
+"""
+
 
 class ExamplesTest(unittest.TestCase):
 
@@ -67,6 +98,12 @@ class ExamplesTest(unittest.TestCase):
 
     def test_stage_3(self):
         self.check(STAGE_3, "stage 3")
+
+    def test_stage_4(self):
+        self.check(STAGE_4, "stage 4")
+
+    def test_stage_5(self):
+        self.check(STAGE_5, "stage 5")
 
     def test_readme(self):
         with open(README, encoding="utf-8") as file:
