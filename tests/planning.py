@@ -245,3 +245,42 @@ def big_conditions():
         ("case", ((("any", tuple(leaves[:3])), ("all", tuple(leaves[3:6]))),), ("not", ("all", tuple(leaves[6:8])))),
         ("first", (("any", (leaves[8], leaves[9])), ("not", ("any", (leaves[10], leaves[11])))))))
     return [wide, flat, chain, mixed]
+
+
+def all_said(planner, condition, rows):
+    """The list of the tuples (plan, answers at the rows) of all plans that the planner may choose."""
+    return [(plan, [right_run(planner, condition, plan, row) for row in rows]) for plan in chosen(planner, condition)]
+
+
+def right_value(planner, condition, row, address):
+    """The value of the part at an address at a row, by going through all plans."""
+    said = {right_asked_by(planner, condition, plan, row, address)[0] for plan in right_plans(condition)}
+    return joined(said)[0]
+
+
+class FlatFrame(Frame):
+    """A Frame of an all or any whose parts hold no all and no any."""
+
+    def make(self, levels, root=False):
+        if root:
+            many = self.source.choice((1, 2, 2, 3, 3, 3, 4))
+            return (self.source.choice(("all", "any")), tuple([self.make(1) for _ in range(many)]))
+        kind = self.source.choice(("leaf",) * 7 + ("not", "first", "case"))
+        if kind == "leaf" or levels == 0:
+            return self.leaf()
+        if kind == "not":
+            return (kind, self.leaf())
+        if kind == "first":
+            return (kind, (self.leaf(), self.leaf()))
+        return (kind, ((self.leaf(), self.leaf()),), self.leaf())
+
+    def mild_rows(self, most):
+        """Rows at which few leaves err, and some answers decide."""
+        weights = (4, 1, 2, 3) if self.condition[0] == "all" else (2, 1, 4, 3)
+        found = [row for row in self.rows(3 * most, weights) if list(row.values()).count(SAYS["error"]) <= 2]
+        return found[:most]
+
+
+def make_flat(source, always=0):
+    """A FlatFrame of at most four parts."""
+    return FlatFrame(source, 2, always=always)

@@ -73,13 +73,43 @@ STAGE_4 = """
 """
 
 STAGE_5 = """
+>>> from refusedahead.contents import judged, kept_rows, strength
 >>> from refusedahead.planners import Planner
 >>> from refusedahead.safe import greatest_lot, may_follow, safe_plan
+>>> from refusedahead.sets import fewest_rows, safe_sets
+>>> from refusedahead.stuck import bar, is_bar, rows_of
+>>> from refusedahead.tables import Table
 >>> free, text = Planner("free"), Planner("text")
 >>> some, tens = ("asks", "n", (), "<>", 0), ("asks", "n", (("over", 10),), ">", 3)
 >>> both, rows = ("all", (tens, some)), [{"n": 0}, {"n": 2}]
 >>> [safe_plan(free, both, rows), safe_plan(text, both, rows), may_follow(free, both, rows, []), greatest_lot(free, both, rows)]
 [{(): [1, 0]}, None, [1], [0, 1]]
+>>> [judged(free, both, rows), judged(free, both, rows[1:]), judged(text, both, rows), kept_rows(free, both, rows)]
+['hangs', 'sure', 'never', [1]]
+>>> table = Table([("n", -9, 9, False, False)])
+>>> [strength(free, both, table), strength(text, both, table), bar(free, ("all", (tens,)), rows)]
+['safe', 'never', ('lot', (), ((0, ('leaf', (0,), 0)),))]
+>>> ring = ("all", tuple([("asks", name, (("over", 1),), ">", 0) for name in ("a", "b", "c")]))
+>>> three = [{"a": 0, "b": 2, "c": 1}, {"a": 1, "b": 0, "c": 2}, {"a": 2, "b": 1, "c": 0}]
+>>> [fewest_rows(free, ring, three), safe_sets(free, ring, three), rows_of(bar(free, ring, three)), is_bar(free, ring, three[:2], bar(free, ring, three))]
+[3, [(0, 1), (0, 2), (1, 2)], [0, 1, 2], False]
+"""
+
+STAGE_6 = """
+>>> from refusedahead.contents import judged
+>>> from refusedahead.guards import cheapest, gap, is_guarded, least_guards
+>>> from refusedahead.orders import count_orders, forced, safe_orders
+>>> from refusedahead.planners import Planner
+>>> free = Planner("free")
+>>> some, tens = ("asks", "n", (), "<>", 0), ("asks", "n", (("over", 10),), ">", 3)
+>>> both, rows = ("all", (tens, some)), [{"n": 0}, {"n": 2}]
+>>> [safe_orders(free, both, rows), forced(free, both, rows), count_orders(free, both, rows[1:])]
+[[[1, 0]], [(1, 0)], 2]
+>>> [is_guarded(free, both, rows, [(1, 0)]), gap(free, both, rows, []), cheapest(free, both, rows, {(1, 0): 5})]
+[True, ([0, 1], 0), (5, [(1, 0)])]
+>>> ring = ("all", tuple([("asks", name, (("over", 1),), ">", 0) for name in ("a", "b", "c")]))
+>>> least_guards(free, ring, [{"a": 0, "b": 2, "c": 1}, {"a": 1, "b": 0, "c": 2}])
+[[(1, 0), (2, 1)]]
 """
 
 
@@ -104,6 +134,9 @@ class ExamplesTest(unittest.TestCase):
 
     def test_stage_5(self):
         self.check(STAGE_5, "stage 5")
+
+    def test_stage_6(self):
+        self.check(STAGE_6, "stage 6")
 
     def test_readme(self):
         with open(README, encoding="utf-8") as file:
