@@ -21,34 +21,42 @@ def _is_pair(thing):
 
 def _are_pairs(thing):
     """Whether thing is a list or a tuple of pairs."""
-    return isinstance(thing, (list, tuple)) and all([_is_pair(pair) for pair in thing])
+    if not isinstance(thing, (list, tuple)):
+        return False
+    for pair in thing:
+        if not _is_pair(pair):
+            return False
+    return True
 
 
-def _start(pair):
-    """What pairs are sorted by: those without an end below come first."""
-    low = pair[0]
-    return (False, 0) if low is None else (True, low)
+def _low(pair):
+    """Where a pair starts."""
+    return pair[0]
 
 
-def _go_on(high, low):
-    """Whether no integer lies between an end and the start of a later pair."""
-    return high is None or low is None or low <= high + 1
-
-
-def _farther(one, other):
-    """The farther one of two ends above."""
-    return None if one is None or other is None else max(one, other)
+def _in_order(pairs):
+    """The list of pairs by where they start, those without an end below first."""
+    endless = [pair for pair in pairs if pair[0] is None]
+    return endless + sorted([pair for pair in pairs if pair[0] is not None], key=_low)
 
 
 def _joined(pairs):
-    """The ascending list of stretches as long as possible that pairs tell."""
+    """The ascending tuple of stretches as long as possible that pairs tell."""
+    if len(pairs) < 2:
+        return tuple(pairs)
+    ordered = _in_order(pairs)
     found = []
-    for low, high in sorted(list(pairs), key=_start):
-        if found and _go_on(found[-1][1], low):
-            found[-1] = (found[-1][0], _farther(found[-1][1], high))
-        else:
-            found.append((low, high))
-    return found
+    first, last = ordered[0]
+    for low, high in ordered[1:]:
+        if last is None:
+            break
+        if low is not None and low > last + 1:
+            found.append((first, last))
+            first, last = low, high
+        elif high is None or high > last:
+            last = high
+    found.append((first, last))
+    return tuple(found)
 
 
 def _gaps(stretches):
@@ -62,10 +70,33 @@ def _gaps(stretches):
     return below + between + above
 
 
-def _reaches(pair, number):
-    """Whether an integer lies in a pair."""
-    low, high = pair
-    return (low is None or low <= number) and (high is None or number <= high)
+def _later(one, other):
+    """The later one of two starts."""
+    if one is None or other is None:
+        return other if one is None else one
+    return max(one, other)
+
+
+def _is_earlier(one, other):
+    """Whether one end above is ahead of the other one."""
+    return one is not None and (other is None or one < other)
+
+
+def _met(ones, others):
+    """The stretches of the integers that lie in a stretch of both."""
+    found = []
+    at = 0
+    beside = 0
+    while at < len(ones) and beside < len(others):
+        low, high = _later(ones[at][0], others[beside][0]), ones[at][1]
+        if _is_earlier(high, others[beside][1]):
+            at += 1
+        else:
+            high = others[beside][1]
+            beside += 1
+        if low is None or high is None or low <= high:
+            found.append((low, high))
+    return found
 
 
 def _nearest(pair):
@@ -89,7 +120,7 @@ class Spans:
     def __init__(self, pairs):
         if not _are_pairs(pairs):
             raise Wrong(0)
-        self._stretches = tuple(_joined(pairs))
+        self._stretches = _joined(pairs)
 
     def pairs(self):
         """The ascending list of the stretches, as tuples (low, high)."""
@@ -101,9 +132,10 @@ class Spans:
 
     def many(self):
         """How many integers there are, or None if there is no end."""
-        if None in [end for pair in self._stretches for end in pair]:
+        stretches = self._stretches
+        if len(stretches) > 0 and (stretches[0][0] is None or stretches[-1][1] is None):
             return None
-        return sum([high - low + 1 for low, high in self._stretches])
+        return sum([high - low + 1 for low, high in stretches])
 
     def is_within(self, other):
         """Whether all integers are in another Spans."""
@@ -111,7 +143,7 @@ class Spans:
 
     def within(self, low, high):
         """The Spans of the integers from low to high."""
-        return self & Spans([(low, high)])
+        return _made(_met(self._stretches, [(low, high)]))
 
     def __len__(self):
         return len(self._stretches)
@@ -120,19 +152,37 @@ class Spans:
         return iter(self._stretches)
 
     def __contains__(self, x):
-        return is_integer(x) and any([_reaches(pair, x) for pair in self._stretches])
+        # This is asked far more often than all else, so it calls nothing of the package.
+        if not isinstance(x, int) or isinstance(x, bool):
+            return False
+        for low, high in self._stretches:
+            if high is None or x <= high:
+                return low is None or low <= x
+        return False
 
     def __or__(self, other):
-        return Spans(self._stretches + other._stretches)
+        return spans_of(self._stretches + other._stretches)
 
     def __and__(self, other):
-        return ~(~self | ~other)
+        return _made(_met(self._stretches, other._stretches))
 
     def __sub__(self, other):
-        return self & ~other
+        return _made(_met(self._stretches, _gaps(other._stretches)))
 
     def __invert__(self):
-        return Spans(_gaps(self._stretches))
+        return _made(_gaps(self._stretches))
 
     def __eq__(self, other):
         return isinstance(other, Spans) and self._stretches == other._stretches
+
+
+def _made(stretches):
+    """The Spans of ascending stretches that are as long as possible."""
+    found = Spans(())
+    found._stretches = tuple(stretches)
+    return found
+
+
+def spans_of(pairs):
+    """The Spans of what surely is a list or a tuple of pairs, so that this is not looked at again."""
+    return _made(_joined(pairs))

@@ -1,7 +1,7 @@
 """Steps that lead a number on or err, and what they lead from where."""
 
 from refusedahead.errors import Errs
-from refusedahead.spans import Spans
+from refusedahead.spans import spans_of
 from refusedahead.values import is_number
 
 
@@ -38,121 +38,128 @@ def are_steps(thing):
     return isinstance(thing, tuple) and all([is_step(step) for step in thing])
 
 
-def step_on(step, number):
-    """What a step leads an integer to; raises Errs where it errs."""
-    kind, worth = step
-    if kind == "plus":
-        return number + worth
-    if kind == "times":
-        return number * worth
-    if kind == "into":
-        return number // worth
-    if kind == "over" and number != 0:
-        return worth // number
-    if kind == "found":
-        for key, goal in worth:
-            if key == number:
-                return goal
+def _goal_of(entries, number):
+    """The number that belongs to a key; raises Errs for what is no key."""
+    for key, goal in entries:
+        if key == number:
+            return goal
     raise Errs(number)
 
 
 def steps_on(steps, number):
     """What steps lead an integer to; raises Errs where one of them errs."""
     found = number
-    for step in steps:
-        found = step_on(step, found)
+    for kind, worth in steps:
+        if kind == "over":
+            if found == 0:
+                raise Errs(found)
+            found = worth // found
+        elif kind == "plus":
+            found = found + worth
+        elif kind == "times":
+            found = found * worth
+        elif kind == "into":
+            found = found // worth
+        else:
+            found = _goal_of(worth, found)
     return found
 
 
-def _pair(low, high):
-    """The list of the pair from low to high, or none if nothing lies in it."""
-    if low is not None and high is not None and low > high:
-        return []
-    return [(low, high)]
-
-
-def _opposite(end):
-    """The end at the other side of 0."""
-    return None if end is None else -end
+def step_on(step, number):
+    """What a step leads an integer to; raises Errs where it errs."""
+    return steps_on((step,), number)
 
 
 def _mirrored(pairs):
     """The pairs of the same integers with the other sign."""
-    return [(_opposite(high), _opposite(low)) for low, high in pairs]
+    return [(None if high is None else -high, None if low is None else -low) for low, high in pairs]
 
 
-def _before_plus(k, low, high):
-    """The pairs of the n with low <= n + k <= high."""
-    return [(None if low is None else low - k, None if high is None else high - k)]
+def _before_plus(k, pairs):
+    """The pairs of the n with n + k in one of the pairs."""
+    return [(None if low is None else low - k, None if high is None else high - k) for low, high in pairs]
 
 
-def _before_times(k, low, high):
-    """The pairs of the n with low <= n * k <= high."""
+def _before_times(k, pairs):
+    """The pairs of the n with n * k in one of the pairs."""
     if k < 0:
-        return _mirrored(_before_times(-k, low, high))
-    # -(-low // k) is low divided by k and rounded up.
-    return _pair(None if low is None else -(-low // k), None if high is None else high // k)
+        return _before_times(-k, _mirrored(pairs))
+    found = []
+    for low, high in pairs:
+        # -(-low // k) is low divided by k and rounded up.
+        first, last = None if low is None else -(-low // k), None if high is None else high // k
+        if first is None or last is None or first <= last:
+            found.append((first, last))
+    return found
 
 
-def _before_into(d, low, high):
-    """The pairs of the n with low <= n // d <= high."""
-    return [(None if low is None else low * d, None if high is None else high * d + d - 1)]
+def _before_into(d, pairs):
+    """The pairs of the n with n // d in one of the pairs."""
+    return [(None if low is None else low * d, None if high is None else high * d + d - 1) for low, high in pairs]
 
 
-def _before_over_above(k, low, high):
-    """The pairs of the n from 1 on with low <= k // n <= high."""
+def _before_over_above(k, pairs):
+    """The pairs of the n from 1 on with k // n in one of the pairs."""
     if k < 0:
         # For n from 1 on k // n is -1 - (-1 - k) // n, and -1 - k is not below 0.
-        below = None if high is None else -1 - high
-        above = None if low is None else -1 - low
-        return _before_over_above(-1 - k, below, above)
-    if high is not None and high < 0:
-        return []
-    # k // n falls from k down to 0, so the greatest n belong to the least results.
-    first = 1 if high is None else k // (high + 1) + 1
-    last = None if low is None or low <= 0 else k // low
-    return _pair(first, last)
+        return _before_over_above(-1 - k, _before_plus(1, _mirrored(pairs)))
+    found = []
+    for low, high in pairs:
+        if high is not None and high < 0:
+            continue
+        # k // n falls from k down to 0, so the greatest n belong to the least results.
+        first = 1 if high is None else k // (high + 1) + 1
+        last = None if low is None or low <= 0 else k // low
+        if last is None or first <= last:
+            found.append((first, last))
+    return found
 
 
-def _before_over(k, low, high):
-    """The pairs of the n, not 0, with low <= k // n <= high."""
+def _before_over(k, pairs):
+    """The pairs of the n, not 0, with k // n in one of the pairs."""
     # k // n is -k // -n, so what lies below 0 is the mirrored case of -k.
-    return _before_over_above(k, low, high) + _mirrored(_before_over_above(-k, low, high))
+    return _before_over_above(k, pairs) + _mirrored(_before_over_above(-k, pairs))
 
 
-PAIRS_BEFORE = {"into": _before_into, "over": _before_over, "plus": _before_plus, "times": _before_times}
+def _before_found(entries, pairs):
+    """The pairs of the keys whose number is in one of the pairs."""
+    spans = spans_of(pairs)
+    return [(key, key) for key, goal in entries if goal in spans]
 
 
-def _before_step(step, spans):
-    """The Spans of the integers that one step leads into a Spans."""
+PAIRS_BEFORE = {
+    "found": _before_found, "into": _before_into, "over": _before_over, "plus": _before_plus, "times": _before_times}
+
+
+def _before_step(step, pairs):
+    """The pairs of the integers that one step leads into one of the pairs."""
     kind, worth = step
-    if kind == "found":
-        return Spans([(key, key) for key, goal in worth if goal in spans])
     pairs_before = PAIRS_BEFORE[kind]
-    return Spans([pair for low, high in spans for pair in pairs_before(worth, low, high)])
+    return pairs_before(worth, pairs)
 
 
 def before(steps, spans):
     """The Spans of the integers that steps lead into a Spans."""
-    found = Spans(spans.pairs())
+    found = spans.pairs()
     for step in steps[::-1]:
         found = _before_step(step, found)
-    return found
+    return spans_of(found)
 
 
 def _erring_step(step):
-    """The Spans of the integers at which one step errs."""
+    """The pairs of the integers at which one step errs."""
     kind, worth = step
     if kind == "over":
-        return Spans([(0, 0)])
-    if kind == "found":
-        return ~Spans([(key, key) for key, _ in worth])
-    return Spans([])
+        return [(0, 0)]
+    if kind != "found":
+        return []
+    lows, highs = [None] + [key + 1 for key, _ in worth], [key - 1 for key, _ in worth] + [None]
+    return [(low, high) for low, high in zip(lows, highs) if low is None or high is None or low <= high]
 
 
 def erring(steps):
     """The Spans of the integers at which some of the steps errs."""
-    found = Spans([])
-    for index, step in enumerate(steps):
-        found = found | before(steps[:index], _erring_step(step))
-    return found
+    found = []
+    for step in steps[::-1]:
+        found = _erring_step(step) + _before_step(step, found)
+    return spans_of(found)
