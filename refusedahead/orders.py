@@ -23,7 +23,8 @@ def safe_orders(planner, condition, rows):
     orders, followers = [[]], {}
     for _ in condition[1]:
         longer = []
-        for order in orders:
+        # Behind the loop both names mean one list, so a copy is walked.
+        for order in list(orders):
             lot = tuple(sorted(order))
             if lot not in followers:
                 followers[lot] = found.followers((), found.everyone, order)
@@ -38,7 +39,7 @@ def count_orders(planner, condition, rows):
     counts = {(): 1}
     for _ in condition[1]:
         longer = {}
-        for lot, many in counts.items():
+        for lot, many in list(counts.items()):
             for part in found.followers((), found.everyone, lot):
                 key = tuple(sorted(lot + (part,)))
                 longer[key] = longer.get(key, 0) + many
