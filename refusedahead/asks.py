@@ -1,7 +1,7 @@
 """Tests of one column, and what they answer at a value."""
 
 from refusedahead.errors import Errs
-from refusedahead.spans import Spans
+from refusedahead.spans import Spans, spans_of
 from refusedahead.steps import are_steps, before, erring, steps_on
 from refusedahead.values import is_integer, is_name, is_number
 
@@ -13,6 +13,9 @@ BELOW = ("<", "<=", "<>")
 LEVEL = ("<=", "=", ">=")
 ABOVE = ("<>", ">", ">=")
 SIGNS = ("<", "<=", "<>", "=", ">", ">=")
+
+# The sign that holds just where another one does not.
+AGAINST = {"<": ">=", "<=": ">", "<>": "=", "=": "<>", ">": "<=", ">=": "<"}
 
 
 def is_test(thing):
@@ -48,7 +51,7 @@ def _agreeing(sign, number):
     below = [(None, number - 1)] if sign in BELOW else []
     level = [(number, number)] if sign in LEVEL else []
     above = [(number + 1, None)] if sign in ABOVE else []
-    return Spans(below + level + above)
+    return spans_of(below + level + above)
 
 
 def _asks_answer(test, value):
@@ -76,6 +79,14 @@ def test_answer(test, value):
     return "yes" if is_integer(value) else "no"
 
 
+def spans_saying(test, said):
+    """The Spans of the integers at which a test with steps answers error, no or yes."""
+    _, _, steps, sign, number = test
+    if said == "error":
+        return erring(steps)
+    return before(steps, _agreeing(sign if said == "yes" else AGAINST[sign], number))
+
+
 def told(test):
     """The dict from the answers to the Spans of the integers that have them."""
     found = {word: Spans([]) for word in ANSWERS}
@@ -84,8 +95,7 @@ def told(test):
     elif test[0] == "number":
         found["yes"] = Spans([(None, None)])
     else:
-        _, _, steps, sign, number = test
-        found["error"] = erring(steps)
-        found["yes"] = before(steps, _agreeing(sign, number))
+        found["error"] = spans_saying(test, "error")
+        found["yes"] = spans_saying(test, "yes")
         found["no"] = ~(found["error"] | found["yes"])
     return found

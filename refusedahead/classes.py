@@ -2,55 +2,57 @@
 
 from refusedahead.asking import answer
 from refusedahead.asks import column_of, test_answer
-from refusedahead.cells import cell_of, cells_of, value_for
-from refusedahead.texts import tests_in
+from refusedahead.cells import cells_of, first_alike, value_for
+from refusedahead.texts import all_tests
 
 
-def _indexes_on(table, name):
-    """The list of the indexes of a table that ask a column."""
-    return [test for test in table.indexes() if column_of(test) == name]
+def tests_by_column(table, conditions):
+    """The dict from the columns of a table to the lists of the different tests that ask them, indexes too.
+
+    Conditions on a join ask columns of another table as well; those tests are passed over.
+    """
+    found = {column: {} for column in table.columns()}
+    lots = {column[0]: lot for column, lot in found.items()}
+    for tests in [all_tests(condition) for condition in conditions] + [table.indexes()]:
+        for test in tests:
+            if column_of(test) in lots:
+                lots[column_of(test)][test] = True
+    return {column: list(lot) for column, lot in found.items()}
 
 
-def _tests_on(table, conditions, name):
-    """The list of the tests of conditions and indexes that ask a column."""
-    every = [test for condition in conditions for test in tests_in(condition)]
-    return [test for test in every if column_of(test) == name] + _indexes_on(table, name)
-
-
-def _first_values(table, conditions, column):
+def _first_values(column, tests, indexes):
     """The list of the first values of the cells of a column at which no index errs, in order."""
-    name = column[0]
-    values = [value_for(cell) for cell in cells_of(column, _tests_on(table, conditions, name))]
-    indexes = _indexes_on(table, name)
-    return [value for value in values if "error" not in [test_answer(test, value) for test in indexes]]
-
-
-def _in_order(row):
-    """A row with its names ascending."""
-    return {name: row[name] for name in sorted(row)}
+    values = [value_for(cell) for cell in cells_of(column, tests)]
+    mine = [test for test in indexes if column_of(test) == column[0]]
+    return [value for value in values if "error" not in [test_answer(test, value) for test in mine]]
 
 
 def class_rows(table, conditions):
     """The list of the rows of all classes, the cells of the last column changing fastest."""
-    rows = [{}]
-    for column in table.columns():
-        values = _first_values(table, conditions, column)
+    # The names stand in their order from the first row on.
+    rows, indexes = [{name: None for name in table.names()}], table.indexes()
+    for column, tests in tests_by_column(table, conditions).items():
+        values = _first_values(column, tests, indexes)
         rows = [{**row, column[0]: value} for row in rows for value in values]
-    return [_in_order(row) for row in rows]
+    return rows
 
 
 def class_row(table, conditions, row):
     """The row of the class of a row."""
-    found = {}
-    for column in table.columns():
-        name = column[0]
-        found[name] = value_for(cell_of(column, _tests_on(table, conditions, name), row[name]))
-    return _in_order(found)
+    found = {name: None for name in table.names()}
+    for column, tests in tests_by_column(table, conditions).items():
+        found[column[0]] = first_alike(column, tests, row[column[0]])
+    return found
 
 
 def are_alike(table, conditions, one, other):
     """Whether two rows are alike by some conditions."""
-    return class_row(table, conditions, one) == class_row(table, conditions, other)
+    tests = [test for condition in conditions for test in all_tests(condition)] + table.indexes()
+    for test in tests:
+        mine, theirs = one[column_of(test)], other[column_of(test)]
+        if mine != theirs and test_answer(test, mine) != test_answer(test, theirs):
+            return False
+    return True
 
 
 def rows_with(table, condition, said):

@@ -100,9 +100,23 @@ def leaves(condition):
     return [address for address, part, _ in places(condition) if part[0] in LEAVES]
 
 
+def all_tests(condition):
+    """The list of the tests in a condition, perhaps some several times, in no order."""
+    found, waiting = [], [condition]
+    while len(waiting) > 0:
+        part = waiting.pop()
+        if part[0] in TESTS:
+            found.append(part)
+        elif part[0] in LISTS:
+            waiting.extend(part[1])
+        else:
+            waiting.extend(parts(part))
+    return found
+
+
 def tests_in(condition):
     """The ascending list of the different tests in a condition."""
-    return sorted({part for _, part, _ in places(condition) if part[0] in TESTS})
+    return sorted(set(all_tests(condition)))
 
 
 def columns_in(condition):
