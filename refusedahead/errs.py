@@ -4,7 +4,7 @@ from refusedahead.asking import leaf_answer
 from refusedahead.classes import class_rows
 from refusedahead.plans import asker_by, folds_err, is_plan_by, kept_by, run, text_plan
 from refusedahead.sevens import answers_of, of_all, of_any, of_case, of_first, of_not, plainly, word_of
-from refusedahead.texts import DECIDES, NODES, parts, places
+from refusedahead.texts import DECIDES, NODES, parts, places, plain_parts
 
 
 def _free_word(condition, below, row):
@@ -57,18 +57,32 @@ def words_over(planner, condition, rows):
     return [_words(planner, spots, row) for row in rows]
 
 
+def _root_word(condition, plain, lowers, row):
+    """The word of a condition in mode free; with lowers, unknown at a plain place is taken for no."""
+    below = [_root_word(part, truth, lowers, row)
+             for part, truth in zip(parts(condition), plain_parts(condition, plain))]
+    word = _free_word(condition, below, row)
+    return plainly(word) if plain and lowers else word
+
+
+def root_words(planner, condition, rows):
+    """The list of the words of what a condition answers at each of some rows."""
+    if folds_err(planner, condition):
+        return [(None, True)] * len(rows)
+    if planner.mode == "free":
+        return [_root_word(condition, True, planner.unknown, row) for row in rows]
+    return [_text_word(planner, condition, True, row) for row in rows]
+
+
 def word_at(planner, condition, row):
     """The word of what a condition answers at a row."""
-    if folds_err(planner, condition):
-        return (None, True)
-    if planner.mode == "free":
-        return words_at(planner, condition, row)[()]
-    return _text_word(planner, condition, True, row)
+    return root_words(planner, condition, [row])[0]
 
 
 def erring_rows(planner, table, condition):
     """The list of the rows of classes at which some plan errs."""
-    return [row for row in class_rows(table, [condition]) if word_at(planner, condition, row)[1]]
+    rows = class_rows(table, [condition])
+    return [row for row, word in zip(rows, root_words(planner, condition, rows)) if word[1]]
 
 
 def can_err(planner, table, condition):

@@ -3,7 +3,7 @@
 A lot of rows or of parts is an integer here, whose bit with the number of a row or part is set.
 """
 
-from refusedahead.errs import word_at
+from refusedahead.errs import root_words
 from refusedahead.plans import folds_err
 from refusedahead.safe import Places
 from refusedahead.texts import LEAVES, NODES
@@ -59,7 +59,7 @@ def safe_sets(planner, condition, rows):
     if folds_err(planner, condition):
         return []
     if planner.mode != "free":
-        words = [word_at(planner, condition, row) for row in rows]
+        words = root_words(planner, condition, rows)
         return [tuple([index for index, word in enumerate(words) if not word[1]])]
     lots = _safe_lots(Places(planner, condition, rows), ())
     return sorted([tuple(_indexes_in(lot)) for lot in lots])

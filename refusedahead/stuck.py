@@ -6,7 +6,7 @@ from refusedahead.texts import LEAVES, NODES
 from refusedahead.values import is_integer
 
 
-def _bar_at(found, address, coming):
+def bar_at(found, address, coming):
     """A bar of the place at an address and of the rows that come to it, or None."""
     if found.kind(address) in LEAVES:
         rows = found.having(address, coming, (None,))
@@ -15,7 +15,7 @@ def _bar_at(found, address, coming):
         return _lot_bar(found, address, coming)
     # Up to the first part that is barred all parts ahead are safe, so they all have values.
     for index, rows in enumerate(found.comers(address, coming)):
-        within = _bar_at(found, address + (index,), rows)
+        within = bar_at(found, address + (index,), rows)
         if within is not None:
             return ("part", address, index, within)
     return None
@@ -26,7 +26,7 @@ def _lot_bar(found, address, coming):
     lot = found.taken(address, coming, {})
     left = found.still_open(address, coming, lot)
     others = [index for index in range(len(found.below(address))) if index not in lot]
-    bars = [(index, _bar_at(found, address + (index,), left)) for index in others]
+    bars = [(index, bar_at(found, address + (index,), left)) for index in others]
     return ("lot", address, tuple(bars)) if len(bars) > 0 else None
 
 
@@ -35,7 +35,7 @@ def bar(planner, condition, rows):
     if folds_err(planner, condition):
         return ("folds", erring_alwayses(condition)[0])
     found = Places(planner, condition, rows)
-    return _bar_at(found, (), found.everyone)
+    return bar_at(found, (), found.everyone)
 
 
 def _are_bars(found, address, coming, thing):

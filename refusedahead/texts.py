@@ -54,7 +54,7 @@ def parts(condition):
     return []
 
 
-def _with_parts(condition, others):
+def with_parts(condition, others):
     """A condition that has parts, with as many others in their places."""
     kind = condition[0]
     if kind == "not":
@@ -148,7 +148,7 @@ def _put(condition, address, other):
         return other
     below = parts(condition)
     below[address[0]] = _put(below[address[0]], address[1:], other)
-    return _with_parts(condition, below)
+    return with_parts(condition, below)
 
 
 def put_at(condition, address, other):
