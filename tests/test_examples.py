@@ -100,6 +100,7 @@ STAGE_6 = """
 >>> from refusedahead.guards import cheapest, gap, is_guarded, least_guards
 >>> from refusedahead.orders import count_orders, forced, safe_orders
 >>> from refusedahead.planners import Planner
+>>> from refusedahead.written import laid, with_guards
 >>> free = Planner("free")
 >>> some, tens = ("asks", "n", (), "<>", 0), ("asks", "n", (("over", 10),), ">", 3)
 >>> both, rows = ("all", (tens, some)), [{"n": 0}, {"n": 2}]
@@ -110,6 +111,67 @@ STAGE_6 = """
 >>> ring = ("all", tuple([("asks", name, (("over", 1),), ">", 0) for name in ("a", "b", "c")]))
 >>> least_guards(free, ring, [{"a": 0, "b": 2, "c": 1}, {"a": 1, "b": 0, "c": 2}])
 [[(1, 0), (2, 1)]]
+>>> with_guards(both, [(1, 0)]) == ("all", (("case", ((("not", some), ("always", "no")),), tens), some))
+True
+>>> [judged(free, with_guards(both, [(1, 0)]), rows), laid(both, {(): [1, 0]}) == ("all", (some, tens))]
+['sure', True]
+"""
+
+STAGE_7 = """
+>>> from refusedahead.compared import alike, is_parting, may_stand, outcomes, parting
+>>> from refusedahead.planners import Planner
+>>> from refusedahead.reports import planners_for, surest
+>>> from refusedahead.tables import Table
+>>> free, table = Planner("free"), Table([("n", -9, 9, False, False)])
+>>> some, tens = ("asks", "n", (), "<>", 0), ("asks", "n", (("over", 10),), ">", 3)
+>>> both, case = ("all", (tens, some)), ("case", ((some, tens),), ("always", "no"))
+>>> [outcomes(free, both, [{"n": 0}, {"n": 1}]), alike(free, table, both, case), may_stand(free, table, both, case), may_stand(free, table, case, both)]
+[[[1], 'errs'], False, True, False]
+>>> [is_parting(free, table, both, case, parting(free, table, both, case)), is_parting(free, table, both, case, ([{"n": 0}], "errs"))]
+[True, True]
+>>> [surest(("all", (some, tens)), table), planners_for([(both, [{"n": 0}], [])])]
+[[('text', False, False), ('text', False, True), ('text', True, False), ('text', True, True)], [('free', False, False), ('free', False, True), ('free', True, False), ('free', True, True)]]
+"""
+
+STAGE_8 = """
+>>> from refusedahead.joins import Join, join_can_err, join_ways, pair_rows, run_join
+>>> from refusedahead.planners import Planner
+>>> from refusedahead.shown import shown_can_err, shown_lists
+>>> from refusedahead.some import some_paper, some_word
+>>> from refusedahead.tables import Table
+>>> left, right = Table([("n", 0, 9, False, False)]), Table([("key", 5, 12, True, False)])
+>>> join, share = Join(left, right, "n", "key"), ("asks", "n", (("over", 12),), ">", 1)
+>>> [join.rows(([{"n": 0}, {"n": 7}], [{"key": 7}, {"key": None}])), pair_rows(join, share)]
+[[{'key': 7, 'n': 7}], [{'key': 5, 'n': 5}, {'key': 7, 'n': 7}]]
+>>> behind, beneath, terms = Planner("text"), Planner("text", beneath=True), [("n", (("over", 60),))]
+>>> [join_can_err(behind, join, share), join_can_err(beneath, join, share), join_ways(beneath, join, share)]
+[False, True, [([], {}), ([()], {})]]
+>>> [run_join(beneath, join, share, ([()], {}), ([{"n": 0}], [])), run_join(beneath, join, share, ([], {}), ([{"n": 0}], []))]
+[None, []]
+>>> [shown_lists(behind, share, terms, {}, [{"n": 5}, {"n": 9}]), shown_can_err(behind, left, ("empty", "n"), terms)]
+[[[12]], False]
+>>> both = ("all", (share, ("asks", "n", (), "<>", 0)))
+>>> [some_word(Planner("free"), both, [{"n": 0}, {"n": 2}]), some_word(Planner("free"), both, [{"n": 2}]), some_paper(behind, both, [{"n": 2}], "no")]
+[('yes', True), ('yes', False), None]
+"""
+
+STAGE_9 = r"""
+>>> from refusedahead.desk import Desk
+>>> from refusedahead.notation import show_condition, show_row
+>>> from refusedahead.readers import read_condition, read_planner, read_table
+>>> from refusedahead.store import Store
+>>> table = read_table("column n -9 9 empty\nindex n over 1 > 0\n")
+>>> [len(table), table.indexes(), show_row({"t": "ten", "n": None}), show_condition(("not", ("empty", "n")))]
+[1, [('asks', 'n', (('over', 1),), '>', 0)], 'n=-, t=ten', 'not(n empty)']
+>>> read_condition("case(n <> 0 ? n over 10 > 3, always no)") == ("case", ((("asks", "n", (), "<>", 0), ("asks", "n", (("over", 10),), ">", 3)),), ("always", "no"))
+True
+>>> [read_planner("free folds").folds, read_planner("free folds").unknown, read_planner("text").mode]
+[True, False, 'text']
+>>> desk = Desk(read_table("column n -9 9 empty\n"))
+>>> [desk.execute(line) for line in ("put n=0", "put n=2", "ask free: all(n over 10 > 3, n <> 0)", "foresee free: n over 10 > 3")]
+['1', '2', 'hangs 1', 'never']
+>>> [desk.execute(line) for line in ("out 0", "add n over 1 > 0", "foresee free: n over 10 > 3", "back", "back", "rows")]
+['1', '1', 'sure', '1', '2', 'n=0\nn=2\n']
 """
 
 
@@ -137,6 +199,15 @@ class ExamplesTest(unittest.TestCase):
 
     def test_stage_6(self):
         self.check(STAGE_6, "stage 6")
+
+    def test_stage_7(self):
+        self.check(STAGE_7, "stage 7")
+
+    def test_stage_8(self):
+        self.check(STAGE_8, "stage 8")
+
+    def test_stage_9(self):
+        self.check(STAGE_9, "stage 9")
 
     def test_readme(self):
         with open(README, encoding="utf-8") as file:
