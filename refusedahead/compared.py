@@ -57,7 +57,7 @@ def strayed(one, other, lot):
     for row, mine, theirs in zip(lot, one.words, other.words):
         for outcome in _outcomes_of(theirs):
             if outcome not in _outcomes_of(mine):
-                return ([dict(row)], outcome)
+                return ([row], outcome)
     return _strayed_together(one, other, lot)
 
 
@@ -70,11 +70,11 @@ def _strayed_together(one, other, lot):
     rows = [lot[index] for index in hanging]
     found = Places(one.planner, one.condition, rows)
     for safe in safe_sets(other.planner, other.condition, rows):
-        barred = bar_at(found, (), list(safe))
+        barred = bar_at(found, (), safe)
         if barred is not None:
             together = [hanging[index] for index in rows_of(barred)]
             kept = [at for at, index in enumerate(together) if other.words[index][0] == "yes"]
-            return ([dict(lot[index]) for index in together], kept)
+            return ([lot[index] for index in together], kept)
     return None
 
 

@@ -85,11 +85,8 @@ class Join:
         return [joined_row(row, more) for row in lefts for more in joining.get(row[self._one], [])]
 
     def __eq__(self, other):
-        if not isinstance(other, Join):
-            return False
-        mine = (self._one, self._other, self._partner)
-        theirs = (other._one, other._other, other._partner)
-        return mine == theirs and self._left == other._left and self._right == other._right
+        return (isinstance(other, Join) and self._left == other._left and self._right == other._right
+                and self._one == other._one and self._other == other._other and self._partner == other._partner)
 
 
 def joined_row(row, more):
@@ -137,9 +134,8 @@ def _answers_of(planner, condition, plan, addresses, rows):
         return ["yes"] * len(rows)
     if condition[0] != "all":
         return [run(planner, condition, plan, row) for row in rows]
-    every = planner.mode == "every"
-    order = [index for index in plan[()] if (index,) in addresses]
-    orders = {(): order} if every else {**plan, (): order}
+    # An all whose order lacks parts is the all of the others alone.
+    orders, every = {**plan, (): [index for index in plan[()] if (index,) in addresses]}, planner.mode == "every"
     return [Asker(row, orders, every, planner.unknown).said(condition, (), True) for row in rows]
 
 

@@ -183,6 +183,7 @@ class ComparedTest(unittest.TestCase):
             self.check(planner, table, YES, NO, (False, False))
             self.check(planner, table, BOTH, ("not", BOTH), (False, False))
             self.check(planner, table, YES, ("any", (YES, ERROR)), (planner.folds,) * 2)
+            self.check(planner, table, ("any", (YES, ERROR)), YES, (planner.folds,) * 2)
         self.assertEqual(parting(FOLDS, table, YES, ERROR)[0], [])
 
     def test_folds(self):

@@ -242,7 +242,8 @@ class IsTellingTest(unittest.TestCase):
         report = (BOTH, [{"n": 0}], [])
         self.assertIs(is_telling(FREE, TEXT, BOTH, TABLE, report), True)
         self.assertIs(is_telling(FREE, TEXT, BOTH, TABLE, (BOTH, [{"n": 1}, {"n": 0}, {"n": 1}], [0, 2])), True)
-        for thing in ((CASE, [{"n": 0}], []), (BOTH, [{"n": 0}], "errs"), (BOTH, [{"n": 1}], [0]), (BOTH, [], []),
+        for thing in ((CASE, [{"n": 0}], []), (("all", (TENS, SOME, SOME)), [{"n": 0}], []),
+                      (BOTH, [{"n": 0}], "errs"), (BOTH, [{"n": 1}], [0]), (BOTH, [], []),
                       (BOTH, [{"n": 0}], [0]), (BOTH, [{"n": 10}], []), (BOTH, [{"n": False}], []),
                       (BOTH, ({"n": 0},), []), (BOTH, [{"n": 0}], ()), [BOTH, [{"n": 0}], []], (BOTH, [{"n": 0}]),
                       (BOTH, [{"n": 0}], [], 0), (None, [{"n": 0}], []), (BOTH, [{"n": 1}, {"n": 0}], [False])):
