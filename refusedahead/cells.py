@@ -22,7 +22,7 @@ def _turns(column, index, test):
     return found
 
 
-def _stretches(column, asks):
+def _lots_by_answers(column, asks):
     """The dict from the answers of tests with steps to the list of the stretches of a column that have them.
 
     The answers are in the order of their first integers.
@@ -47,7 +47,7 @@ def cells_of(column, tests):
     # Some test tells None from all else; words are with the integers at which all tests err.
     numbers = "number" in [test[0] for test in tests]
     cells, apart = [(True, False, ())] if empty else [], words
-    for answers, stretches in _stretches(column, [test for test in tests if test[0] == "asks"]).items():
+    for answers, stretches in _lots_by_answers(column, [test for test in tests if test[0] == "asks"]).items():
         beside = apart and not numbers and "no" not in answers and "yes" not in answers
         cells.append((False, beside, tuple(stretches)))
         apart = apart and not beside
